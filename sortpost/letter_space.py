@@ -6,7 +6,7 @@ in which its size is, and the numbers of its first and of its last word; its pla
 its words have.
 """
 
-from sortpost.diagrams import ALL, NONE, Diagrams
+from sortpost.diagrams import NONE, Diagrams
 from sortpost.letters import BIGGEST_SIZE, in_order, least_name_beside
 from sortpost.reading import facts_of
 from sortpost.word_search import WordSearch

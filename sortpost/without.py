@@ -137,7 +137,7 @@ class Without:
         here = {name: self.events_here(kind, name, events[name]) for name in events}
         for name in moved:
             for beside in events:
-                if beside != name and here[beside]:
+                if beside != name:
                     pair = (self.lost[kind][name], events[beside])
                     letters = turned(self.diagrams, pair, (self.won[kind][name], here[beside]))
                     found = self.diagrams.either(found, letters)

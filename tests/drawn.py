@@ -43,3 +43,16 @@ def drawn_row(chance, words, folders, depth=2):
 
 def drawn_text(chance, many, words, folders, depth=2):
     return "".join(drawn_row(chance, words, folders, depth) + "\n" for _ in range(many))
+
+
+def drawn_turns(chance, many):
+    """Rules that mostly file a few names, some again and again, by marks and few facts."""
+    rows = []
+    for _ in range(many):
+        facts = [chance.choice(["", "not "]) + chance.choice(["has a", "over 3", "marked m", "marked n", "any", "over 5"])
+                 for _ in range(chance.randint(1, 2))]
+        deeds = [chance.choice(["file x", "file y", "file z", "file w", "mark m", "unmark m", "mark n", "pass x", "pass y", "stop"])
+                 for _ in range(chance.randint(1, 2))]
+        rows.append(f"if {chance.choice([' and ', ' or ']).join(facts)} then {', '.join(deeds)}")
+    # Marks that are the same in the end leave the turns alone to part texts.
+    return rows + chance.choice([[], ["if any then mark m, unmark n"]])

@@ -99,6 +99,19 @@ class ActsAndCounts(unittest.TestCase):
         text = "if has a then pass x\nif any then pass y\nif has a then pass x"
         self.assertEqual(counts(text), [("a", ["a"], 0), ("a", [], 0), None])
 
+    def test_counts_by_turns_and_marks(self):
+        later = "if any then file x\nif any then file y\n"
+        for text, letter in (
+                ("if any then file x, mark m\n" + later + "if marked m then file x\nif any then mark m", None),
+                ("if any then file x, mark m\n" + later + "if not marked m then file x\nif any then mark m", None),
+                ("if any then mark m\nif marked m then file x\n" + later + "if any then mark m", None),
+                ("if any then mark m\nif not marked m then file x\n" + later + "if any then mark m", None),
+                ("if any then mark m\nif not marked m then file y\n" + later + "if any then mark m", ("a", [], 0)),
+                ("if any then mark m\nif marked m then file y\n" + later + "if any then mark m", ("a", [], 0)),
+                ("if has a then mark m\nif marked m then stop\n" + later, ("a", ["a"], 0)),
+                ("if has a then stop, mark m\n" + later, ("a", ["a"], 0))):
+            self.assertEqual(counts(text)[0], letter, text)
+
     def test_counts_by_stop(self):
         self.assertEqual(counts("if has a then stop\nif over 5 then file x\nif from b then mark m"),
                          [("a", ["a"], 6), ("a", [], 6), ("b", [], 0)])

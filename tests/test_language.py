@@ -70,6 +70,8 @@ class Language(unittest.TestCase):
             bound |= {node.name for node in ast.walk(tree) if isinstance(node, (ast.FunctionDef, ast.ClassDef))}
             imported = {word.name for node in ast.walk(tree) if isinstance(node, ast.ImportFrom) for word in node.names}
             classes = {node.name for node in ast.walk(tree) if isinstance(node, ast.ClassDef)}
+            read = {node.id for node in ast.walk(tree) if isinstance(node, ast.Name) and isinstance(node.ctx, ast.Load)}
+            self.assertFalse(imported - read, path)
             self.assertFalse(bound & set(dir(builtins)), path)
             self.assertFalse(bound & imported, path)
             self.assertFalse((bound | imported) & BARRED, path)

@@ -4,7 +4,7 @@ import random
 import unittest
 
 import plain
-from drawn import drawn_text
+from drawn import drawn_text, drawn_turns
 from sortpost.all_letters import acts, apart, counts, reaching, thin, unfiled
 from sortpost.houses import ring
 from sortpost.rules import written
@@ -141,6 +141,42 @@ class Short(unittest.TestCase):
         self.assertEqual(reaching(text, "x"), expected)
         self.assertEqual(acts(text)[2], expected)
         self.assertGreater(len(expected[1]), 4)
+
+
+class Turns(unittest.TestCase):
+    """Names are told by many rules, so that what parts texts is often their turns alone."""
+
+    def test_counts_and_thin(self):
+        for seed in range(400):
+            rows = drawn_turns(random.Random(5000 + seed), 3 + seed % 8)
+            text = "\n".join(rows)
+            rules = plain.plain_rules(text)
+            letters = list(plain.unlike_letters(rules))
+            results = [plain.outcome(rules, letter) for letter in letters]
+            expected = []
+            for number in range(len(rules)):
+                rest = plain.without(rules, number)
+                unlike = [letter for letter, result in zip(letters, results) if plain.outcome(rest, letter) != result]
+                expected.append(unlike[0] if unlike else None)
+            self.assertEqual(counts(text), expected, text)
+            left = plain.plain_thin(rules, letters)
+            self.assertEqual(thin(text), "".join(rows[number] + "\n" for number in left), text)
+
+    def test_apart(self):
+        for seed in range(400):
+            chance = random.Random(6000 + seed)
+            rows = drawn_turns(chance, 3 + seed % 8)
+            others = list(rows)
+            for _ in range(chance.randint(1, 2)):
+                at = chance.randrange(len(others) - 1)
+                others[at], others[at + 1] = others[at + 1], others[at]
+            if chance.random() < 0.3:
+                others.insert(chance.randrange(len(others)), chance.choice(rows))
+            one, other = "\n".join(rows), "\n".join(others)
+            rules, other_rules = plain.plain_rules(one), plain.plain_rules(other)
+            expected = plain.first(plain.unlike_letters(rules + other_rules),
+                                   lambda letter: plain.outcome(rules, letter) != plain.outcome(other_rules, letter))
+            self.assertEqual(apart(one, other), expected, (one, other))
 
 
 class One(unittest.TestCase):
