@@ -30,7 +30,7 @@ class Sign:
         way = Way(letter)
         self.known = {number: way.holds(rules[number].condition) for number in left if not asking[number]}
         # While rules are left out without which the others are alike, the same becomes of the letter.
-        self.outcome = self.way(left).outcome()
+        self.expected = self.way(left).outcome()
         self.busy = {}
         self.stands = True
 
@@ -54,7 +54,7 @@ class Sign:
         While none of the rules that are busy then is left out, this stays so.
         """
         way = self.way([beside for beside in left if beside != number])
-        self.stands = way.outcome() != self.outcome
+        self.stands = way.outcome() != self.expected
 
 
 class Thinning:
